@@ -5,6 +5,7 @@ import (
 
 	"typecase/api"
 	"typecase/ins"
+	"typecase/letters"
 )
 
 // making is what a statement makes.
@@ -69,7 +70,7 @@ func named(name string) []row {
 	}
 	var rows []row
 	if op := ins.Op(name); op != 0 {
-		rows = append(rows, row{name: name, letters: lettersOf(ins.FormOf(op)), ins: api.Ins{Op: op}})
+		rows = append(rows, row{name: name, letters: letters.OfForm(ins.FormOf(op)), ins: api.Ins{Op: op}})
 	}
 	for _, r := range table {
 		if r.name == name {
@@ -77,27 +78,6 @@ func named(name string) []row {
 		}
 	}
 	return rows
-}
-
-// lettersOf: those of the operations of a form.
-func lettersOf(f ins.Form) string {
-	switch f {
-	case ins.Upper:
-		return "du"
-	case ins.Jump:
-		return "dj"
-	case ins.Branch:
-		return "stj"
-	case ins.Load:
-		return "dm"
-	case ins.Store:
-		return "tm"
-	case ins.Number, ins.Shift:
-		return "dsi"
-	case ins.Register:
-		return "dst"
-	}
-	return ""
 }
 
 // aliases are instructions under other names, and what makes several.
@@ -131,36 +111,41 @@ func aliases() []row {
 	}
 }
 
+// shorts are the instructions of two bytes.
 func shorts() []row {
-	return []row{
-		{name: "c.addi4spn", letters: "dsi", makes: short, ins: api.Ins{Op: api.Addi}},
-		{name: "c.lw", letters: "dm", makes: short, ins: api.Ins{Op: api.Lw}},
-		{name: "c.sw", letters: "tm", makes: short, ins: api.Ins{Op: api.Sw}},
-		{name: "c.nop", makes: short, ins: api.Ins{Op: api.Addi}},
-		{name: "c.addi", letters: "xi", makes: short, ins: api.Ins{Op: api.Addi}},
-		{name: "c.jal", letters: "j", makes: short, ins: api.Ins{Op: api.Jal, Rd: 1}},
-		{name: "c.li", letters: "di", makes: short, ins: api.Ins{Op: api.Addi}},
-		{name: "c.addi16sp", letters: "xi", makes: short, ins: api.Ins{Op: api.Addi}},
-		{name: "c.lui", letters: "du", makes: short, ins: api.Ins{Op: api.Lui}},
-		{name: "c.srli", letters: "xi", makes: short, ins: api.Ins{Op: api.Srli}},
-		{name: "c.srai", letters: "xi", makes: short, ins: api.Ins{Op: api.Srai}},
-		{name: "c.andi", letters: "xi", makes: short, ins: api.Ins{Op: api.Andi}},
-		{name: "c.sub", letters: "xt", makes: short, ins: api.Ins{Op: api.Sub}},
-		{name: "c.xor", letters: "xt", makes: short, ins: api.Ins{Op: api.Xor}},
-		{name: "c.or", letters: "xt", makes: short, ins: api.Ins{Op: api.Or}},
-		{name: "c.and", letters: "xt", makes: short, ins: api.Ins{Op: api.And}},
-		{name: "c.j", letters: "j", makes: short, ins: api.Ins{Op: api.Jal}},
-		{name: "c.beqz", letters: "sj", makes: short, ins: api.Ins{Op: api.Beq}},
-		{name: "c.bnez", letters: "sj", makes: short, ins: api.Ins{Op: api.Bne}},
-		{name: "c.slli", letters: "xi", makes: short, ins: api.Ins{Op: api.Slli}},
-		{name: "c.lwsp", letters: "dm", makes: short, ins: api.Ins{Op: api.Lw}},
-		{name: "c.jr", letters: "s", makes: short, ins: api.Ins{Op: api.Jalr}},
-		{name: "c.mv", letters: "dt", makes: short, ins: api.Ins{Op: api.Add}},
-		{name: "c.ebreak", makes: short, ins: api.Ins{Op: api.Ebreak}},
-		{name: "c.jalr", letters: "s", makes: short, ins: api.Ins{Op: api.Jalr, Rd: 1}},
-		{name: "c.add", letters: "xt", makes: short, ins: api.Ins{Op: api.Add}},
-		{name: "c.swsp", letters: "tm", makes: short, ins: api.Ins{Op: api.Sw}},
+	rows := []row{
+		{name: "c.addi4spn", ins: api.Ins{Op: api.Addi}},
+		{name: "c.lw", ins: api.Ins{Op: api.Lw}},
+		{name: "c.sw", ins: api.Ins{Op: api.Sw}},
+		{name: "c.nop", ins: api.Ins{Op: api.Addi}},
+		{name: "c.addi", ins: api.Ins{Op: api.Addi}},
+		{name: "c.jal", ins: api.Ins{Op: api.Jal, Rd: 1}},
+		{name: "c.li", ins: api.Ins{Op: api.Addi}},
+		{name: "c.addi16sp", ins: api.Ins{Op: api.Addi}},
+		{name: "c.lui", ins: api.Ins{Op: api.Lui}},
+		{name: "c.srli", ins: api.Ins{Op: api.Srli}},
+		{name: "c.srai", ins: api.Ins{Op: api.Srai}},
+		{name: "c.andi", ins: api.Ins{Op: api.Andi}},
+		{name: "c.sub", ins: api.Ins{Op: api.Sub}},
+		{name: "c.xor", ins: api.Ins{Op: api.Xor}},
+		{name: "c.or", ins: api.Ins{Op: api.Or}},
+		{name: "c.and", ins: api.Ins{Op: api.And}},
+		{name: "c.j", ins: api.Ins{Op: api.Jal}},
+		{name: "c.beqz", ins: api.Ins{Op: api.Beq}},
+		{name: "c.bnez", ins: api.Ins{Op: api.Bne}},
+		{name: "c.slli", ins: api.Ins{Op: api.Slli}},
+		{name: "c.lwsp", ins: api.Ins{Op: api.Lw}},
+		{name: "c.jr", ins: api.Ins{Op: api.Jalr}},
+		{name: "c.mv", ins: api.Ins{Op: api.Add}},
+		{name: "c.ebreak", ins: api.Ins{Op: api.Ebreak}},
+		{name: "c.jalr", ins: api.Ins{Op: api.Jalr, Rd: 1}},
+		{name: "c.add", ins: api.Ins{Op: api.Add}},
+		{name: "c.swsp", ins: api.Ins{Op: api.Sw}},
 	}
+	for k, r := range rows {
+		rows[k].letters, rows[k].makes = letters.OfShort(r.name), short
+	}
+	return rows
 }
 
 func directives() []row {
