@@ -88,7 +88,7 @@ func TestFaults(t *testing.T) {
 		{".if 1; .endr;.endif", 0, 2, 2}, {".if 1;.endm", 0, 2, 1}, {".rept 1;x;  .endif", 0, 3, 3}, {".rept 1;.endm", 0, 2, 1}, {".macro m;.endr", 0, 2, 1}, {".macro m;.endif", 0, 2, 1},
 		{".rept 1;.else;.endr", 0, 2, 1}, {".macro m;.else;.endm", 0, 2, 1}, {".if 1;.rept 1;.else;.endr;.endif", 0, 3, 1}, {".if 1;.macro m;.endif;.endm", 0, 3, 1},
 		{".if 1;.else;.else;.endif", 0, 3, 1}, {".if 1;.else;.if 2;.else;.endif;.else;.endif", 0, 6, 1}, {".if 1;.if 2;.else;.else;.endif", 0, 4, 1},
-		{".if 1;.else;.endr", 0, 3, 1},
+		{".if 1;.else;.endr", 0, 3, 1}, {".if 1; .endr 5, x", 0, 2, 2}, {".rept 1;x;  .else 5 6", 0, 3, 3}, {"x y z", 0, 1, 1}, {"  .if 1 2 3;x", 0, 1, 3},
 	} {
 		end, other, err := block.End(lines(t, c.src), c.at)
 		var f *api.Fault

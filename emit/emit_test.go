@@ -132,6 +132,10 @@ func TestAll(t *testing.T) {
 	if got, errs := emit.All(items[5:6], l, syms); text(got) != "07" || len(errs) > 0 {
 		t.Errorf("P21.2: %s, %v", text(got), errs)
 	}
+	gap := []api.Item{{Kind: api.Align, Num: 4}, {Kind: api.Bytes, Name: "ab"}, {Kind: api.Org, Num: 3}, {Kind: api.Bytes, Name: "c"}}
+	if got, errs := emit.All(gap, relax.Layout{At: []uint32{2, 4, 6, 7, 8}}, nil); text(got) != "00006162"+"0063" || len(errs) > 0 {
+		t.Errorf("P21.2: gaps: %s, %v", text(got), errs)
+	}
 	if got, errs := emit.All(nil, relax.Layout{}, nil); len(got) > 0 || len(errs) > 0 {
 		t.Errorf("P21.2: nothing: %v, %v", got, errs)
 	}

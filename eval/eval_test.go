@@ -96,6 +96,8 @@ func TestBadNodes(t *testing.T) {
 	checkFault(t, "three, joined once", []api.Node{num, num, num, at(api.Plus)}, true, 3, 9, api.BadExpr)
 	for _, kind := range []int{0, -1, api.Any + 1, 99} {
 		checkFault(t, "no kind", []api.Node{num, num, at(kind)}, false, 3, 9, api.BadExpr)
+		checkFault(t, "no kind alone", []api.Node{at(kind)}, false, 3, 9, api.BadExpr)
+		checkFault(t, "no kind, and more behind", []api.Node{at(kind), num}, false, 3, 9, api.BadExpr)
 	}
 	for kind := api.Neg; kind <= api.Any; kind++ {
 		checkFault(t, "no parts", []api.Node{at(kind)}, true, 3, 9, api.BadExpr)

@@ -33,6 +33,8 @@ func TestTokens(t *testing.T) {
 		{"", nil}, {" \t\r", nil}, {"# x", nil}, {"#", nil}, {"  #\"'\xff", nil},
 		{"li a0, 0x1F # x", []api.Token{name(1, "li"), name(4, "a0"), mark(6, ","), num(8, 31)}},
 		{"._a.$9Z", []api.Token{name(1, "._a.$9Z")}}, {".", []api.Token{name(1, ".")}}, {"_", []api.Token{name(1, "_")}}, {"a@b", []api.Token{name(1, "a"), local(2, "b")}},
+		{"AZaz09", []api.Token{name(1, "AZaz09")}}, {"@A \\Z @z9", []api.Token{local(1, "A"), param(4, "Z"), local(7, "z9")}}, {"z", []api.Token{name(1, "z")}}, {"Z", []api.Token{name(1, "Z")}},
+		{"0xaAfF09", []api.Token{num(1, 0xAAFF09)}}, {`'\xAf''\xfA''\xFF'`, []api.Token{num(1, 0xAF), num(7, 0xFA), num(13, 0xFF)}},
 		{"@l_9.x", []api.Token{local(1, "l_9"), name(5, ".x")}}, {"@_:", []api.Token{local(1, "_"), mark(3, ":")}},
 		{`\p1\_q`, []api.Token{param(1, "p1"), param(4, "_q")}},
 		{"%hi%lo(%pcrel.x", []api.Token{fun(1, "hi"), fun(4, "lo"), mark(7, "("), fun(8, "pcrel"), name(14, ".x")}},
@@ -84,7 +86,7 @@ func TestFaults(t *testing.T) {
 	}{
 		{"4294967296", 1, 1, api.BadNumber}, {"99999999999999999999999999999999999999", 1, 1, api.BadNumber}, {"0x100000000", 1, 1, api.BadNumber},
 		{"0b100000000000000000000000000000000", 1, 1, api.BadNumber},
-		{"a 0x", 1, 3, api.BadNumber}, {"0b", 1, 1, api.BadNumber}, {"0b2", 1, 1, api.BadNumber}, {"0b12", 1, 1, api.BadNumber}, {"0xg", 1, 1, api.BadNumber}, {"0X1", 1, 1, api.BadNumber}, {"0B1", 1, 1, api.BadNumber},
+		{"a 0x", 1, 3, api.BadNumber}, {"0b", 1, 1, api.BadNumber}, {"0b2", 1, 1, api.BadNumber}, {"0b12", 1, 1, api.BadNumber}, {"0xg", 1, 1, api.BadNumber}, {"0xG", 1, 1, api.BadNumber}, {"0x@", 1, 1, api.BadNumber}, {`'\xG0'`, 1, 1, api.BadNumber}, {`'\x0@'`, 1, 1, api.BadNumber}, {"`", 1, 1, api.BadByte}, {"a{", 1, 2, api.BadByte}, {"0X1", 1, 1, api.BadNumber}, {"0B1", 1, 1, api.BadNumber},
 		{"1a", 1, 1, api.BadNumber}, {"1.", 1, 1, api.BadNumber}, {"1_", 1, 1, api.BadNumber}, {"1$", 1, 1, api.BadNumber}, {"0x1.", 1, 1, api.BadNumber}, {"0b1$", 1, 1, api.BadNumber},
 		{"'", 1, 1, api.BadNumber}, {"''", 1, 1, api.BadNumber}, {"'a", 1, 1, api.BadNumber}, {"'ab'", 1, 1, api.BadNumber}, {"'''", 1, 1, api.BadNumber}, {"'\\'", 1, 1, api.BadNumber},
 		{"'\t'", 1, 1, api.BadNumber}, {"'\x1f'", 1, 1, api.BadNumber}, {`'\q'`, 1, 1, api.BadNumber}, {`'\x4'`, 1, 1, api.BadNumber}, {`'\x4g'`, 1, 1, api.BadNumber}, {"'\n'", 1, 1, api.BadNumber}, {"'#", 1, 1, api.BadNumber},

@@ -184,7 +184,7 @@ func TestOptionsMakeShorts(t *testing.T) {
 
 func TestNumbers(t *testing.T) {
 	for src, want := range map[string]string{
-		"li a0, 5": "fixed {addi 10 0 0 5} 4 0", "li a0, -2048": "fixed {addi 10 0 0 -2048} 4 0", "li a0, 2047": "fixed {addi 10 0 0 2047} 4 0",
+		"li a0, 5": "fixed {addi 10 0 0 5} 4 0", "li a0, -1": "fixed {addi 10 0 0 -1} 4 0", "li a0, -2048": "fixed {addi 10 0 0 -2048} 4 0", "li a0, 2047": "fixed {addi 10 0 0 2047} 4 0",
 		"li a0, 2048": "fixed {lui 10 0 0 4096} 4 0; fixed {addi 10 10 0 -2048} 4 0", "li a0, 0x12345678": "fixed {lui 10 0 0 305418240} 4 0; fixed {addi 10 10 0 1656} 4 0",
 		"li a0, 0x1000": "fixed {lui 10 0 0 4096} 4 0", "li a0, 0xFFFFF7FF": "fixed {lui 10 0 0 -4096} 4 0; fixed {addi 10 10 0 2047} 4 0", "li a0, 0x80000000": "fixed {lui 10 0 0 -2147483648} 4 0",
 		"li a0, 0x7FFFFFFF": "fixed {lui 10 0 0 -2147483648} 4 0; fixed {addi 10 10 0 -1} 4 0", "li zero, big": "fixed {lui 0 0 0 305418240} 4 0; fixed {addi 0 0 0 1656} 4 0",
@@ -239,7 +239,7 @@ func TestBranchesAndJumps(t *testing.T) {
 
 func TestDirectives(t *testing.T) {
 	for src, want := range map[string]string{
-		".byte 1": "data [1] 1 0", ".half x, .": "data [x] 2 0; data [.] 2 0", ".2byte 7": "data [7] 2 0", ".word 1/0, z": "data [1 0 k12] 4 0; data [z] 4 0", ".4byte 'a'": "data [97] 4 0",
+		".byte 1": "data [1] 1 0", ".half x, .": "data [x] 2 0; data [.] 2 0", ".2byte 7, 8": "data [7] 2 0; data [8] 2 0", ".4byte 7, 8": "data [7] 4 0; data [8] 4 0", ".word 1/0, z": "data [1 0 k12] 4 0; data [z] 4 0", ".4byte 'a'": "data [97] 4 0",
 		`.ascii "ab", ""`: `bytes "ab" 0 0; bytes 0 0`, `.asciz "ab", ""`: `bytes "ab\x00" 0 0; bytes "\x00" 0 0`, ".zero 3": `bytes "\x00\x00\x00" 0 0`, ".zero k-k": "bytes 0 0",
 		".align 0": "align 0 1", ".align 2": "align 0 4", ".align 12": "align 0 4096", ".org 0": "org 0 0", ".org -1": "org 0 4294967295", ".org k*2": "org 0 128",
 		"x: @y: nop": `here "x" 0 0; here "y@0" 0 0; fixed {addi 0 0 0 0} 4 0`, "x:": `here "x" 0 0`, "": "", "x: .byte 1, 2": `here "x" 0 0; data [1] 1 0; data [2] 1 0`,
@@ -305,10 +305,12 @@ func TestFaults(t *testing.T) {
 func TestMadeUp(t *testing.T) {
 	reg := func(n int) api.Operand { return api.Operand{Kind: api.OpReg, Line: 4, Col: 5, Reg: n} }
 	one := api.Operand{Kind: api.OpExpr, Line: 4, Col: 6, Nodes: []api.Node{{Kind: api.Num, Num: 1}}}
+	great := api.Operand{Kind: api.OpExpr, Line: 4, Col: 6, Nodes: []api.Node{{Kind: api.Num, Num: 0x12345000}}}
 	place := api.Operand{Kind: api.OpExpr, Line: 4, Col: 6, Nodes: []api.Node{{Kind: api.Dot}}}
 	for _, n := range []int{32, -1, math.MaxInt, math.MinInt} {
 		checkFault(t, "addi", api.Stmt{Name: "addi", Line: 2, Col: 3, Args: []api.Operand{reg(n), reg(1), one}}, 2, 3, api.Range)
 		checkFault(t, "li", api.Stmt{Name: "li", Line: 2, Col: 3, Args: []api.Operand{reg(n), one}}, 2, 3, api.Range)
+		checkFault(t, "li of a great number", api.Stmt{Name: "li", Line: 2, Col: 3, Args: []api.Operand{reg(n), great}}, 2, 3, api.Range)
 		checkFault(t, "c.li", api.Stmt{Name: "c.li", Line: 2, Col: 3, Args: []api.Operand{reg(n), place}}, 2, 3, api.Range)
 		for _, name := range []string{"jal", "lui", "la"} {
 			s := api.Stmt{Name: name, Line: 2, Col: 3, Args: []api.Operand{reg(n), place}}
@@ -323,6 +325,25 @@ func TestMadeUp(t *testing.T) {
 	s := api.Stmt{Args: []api.Operand{one}, Labels: []api.Label{{Name: "l", Line: 1, Col: 2}}}
 	if items, o, err := lower.Lower(s, both, nil); toldAll(items) != `here "l" 0 0` || o != both || err != nil {
 		t.Errorf("P17.1: without a name: %s, %v, %v", toldAll(items), o, err)
+	}
+}
+
+// TestOwnMemory: items share no memory with the statement.
+func TestOwnMemory(t *testing.T) {
+	for _, src := range []string{"j x", "call x", "la a0, x", ".word x, y", "lw a0, x(a1)", "addi a0, a1, x", "c.j x", "jal a0, x"} {
+		s := statement(t, src)
+		items, _, err := lower.Lower(s, both, nil)
+		if err != nil {
+			t.Fatal(err)
+		}
+		for _, a := range s.Args {
+			clear(a.Nodes)
+		}
+		for _, i := range items {
+			if len(i.Nodes) != 1 || i.Nodes[0].Kind != api.Sym {
+				t.Errorf("%s: %v", src, i)
+			}
+		}
 	}
 }
 

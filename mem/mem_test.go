@@ -64,6 +64,11 @@ func TestStore(t *testing.T) {
 			t.Errorf("P2.1: Store(%#x, %d, %#x): %v", c.at, c.n, c.v, got)
 		}
 	}
+	more := mem.New(api.Cell{At: 4, Byte: 4}, api.Cell{At: 9, Byte: 9})
+	more.Store(5, 8, all)
+	if more.Load(4, 1) != 4 || more.Load(9, 1) != 9 {
+		t.Errorf("P2.1: more than four bytes stored: %v", more.Cells())
+	}
 	m := mem.New(api.Cell{At: 4, Byte: 4}, api.Cell{At: 5, Byte: 5}, api.Cell{At: 6, Byte: 6}, api.Cell{At: 7, Byte: 7})
 	m.Store(5, 2, 0)
 	if got := m.Cells(); !slices.Equal(got, []api.Cell{{At: 4, Byte: 4}, {At: 7, Byte: 7}}) {

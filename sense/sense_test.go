@@ -123,7 +123,7 @@ func TestMadeUp(t *testing.T) {
 		for _, n := range []int{-1, 0, 31, 32, 1 << 40} {
 			for op := -1; op < 50; op++ {
 				i := api.Item{Kind: kind, Name: "x", Ins: api.Ins{Op: op, Rd: n, Rs1: n, Rs2: n}, Num: uint32(n)}
-				for _, l := range []relax.Layout{{}, {At: []uint32{0}}, {At: []uint32{0, 4}}, {At: []uint32{0, 4}, Sizes: []int{8}}} {
+				for _, l := range []relax.Layout{{}, {At: []uint32{0}}, {At: []uint32{0, 4}}, {At: []uint32{0}, Sizes: []int{8}}, {At: []uint32{0, 4}, Sizes: []int{8}}} {
 					sense.Step(asm.Image{Items: []api.Item{i}, Layout: l}, api.State{})
 					sense.Step(asm.Image{Items: []api.Item{i}, Layout: l, Syms: []eval.Symbol{{Name: "x"}}}, api.State{})
 				}
